@@ -40,9 +40,9 @@ func Words(s string) []uint64 {
 	return words
 }
 
-// Text is the first n bytes of the words, and true; nothing, and false, if n is below 0, the words are too few, or a byte behind the n-th one is not 0.
+// Text is the first n bytes of the words, and true; nothing, and false, if n is below 0, the words are fewer or more than n bytes need, or a byte behind the n-th one is not 0.
 func Text(words []uint64, n int) (string, bool) {
-	if n < 0 || Count(n) > len(words) || !isBlank(words, n) {
+	if n < 0 || len(words) != Count(n) || !isBlank(words, n) {
 		return "", false
 	}
 	text := make([]byte, 0, n)
@@ -58,19 +58,8 @@ bytes:
 	return string(text), true
 }
 
-// isBlank asks whether all bytes behind the n-th one are 0, in all of the words: more of them than n bytes need may be there.
+// isBlank asks whether all bytes behind the n-th one are 0. The words are just as many as n bytes need, so that only the last one can have such bytes.
 func isBlank(words []uint64, n int) bool {
-	whole := n / wordBytes
-	if whole == len(words) {
-		return true
-	}
-	if words[whole]>>(n%wordBytes*byteBits) != 0 {
-		return false
-	}
-	for _, word := range words[whole+1:] {
-		if word != 0 {
-			return false
-		}
-	}
-	return true
+	used := n % wordBytes
+	return used == 0 || words[len(words)-1]>>(used*byteBits) == 0
 }

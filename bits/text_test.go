@@ -132,18 +132,22 @@ func TestText(t *testing.T) {
 		{nil, math.MaxInt - 6, "", false},
 		// a byte behind the n-th one
 		{[]uint64{0x616263}, 2, "", false},
-		{[]uint64{0x61}, 0, "", false},
 		{[]uint64{1 << 56}, 7, "", false},
 		{[]uint64{1 << 63}, 7, "", false},
 		{[]uint64{0x6867666564636261}, 7, "", false},
 		{[]uint64{0x6867666564636261, 0x0100000000000069}, 9, "", false},
+		// more words than n bytes need, be they blank or not
+		{[]uint64{0}, 0, "", false},
+		{[]uint64{0, 0}, 0, "", false},
+		{[]uint64{1}, 0, "", false},
+		{[]uint64{0x61, 0}, 1, "", false},
+		{[]uint64{0x61, 0, 0}, 1, "", false},
+		{[]uint64{0x6867666564636261, 0}, 7, "", false},
+		{[]uint64{0x6867666564636261, 0}, 8, "", false},
+		{[]uint64{0x6867666564636261, 0x69, 0}, 9, "", false},
 		{[]uint64{0x6867666564636261, 0x69}, 8, "", false},
 		{[]uint64{0x61, 0, 1}, 1, "", false},
-		// words that n bytes do not need, and that are blank
-		{[]uint64{0}, 0, "", true},
-		{[]uint64{0, 0}, 0, "", true},
-		{[]uint64{0x61, 0, 0}, 1, "a", true},
-		{[]uint64{0x6867666564636261, 0}, 8, "abcdefgh", true},
+		{make([]uint64, 4), 24, "", false},
 	} {
 		if got, ok := bits.Text(c.words, c.n); got != c.want || ok != c.ok {
 			t.Errorf("Text(%x, %d): %q, %v, want %q, %v", c.words, c.n, got, ok, c.want, c.ok)
@@ -151,7 +155,7 @@ func TestText(t *testing.T) {
 	}
 }
 
-// P2.3: each byte behind the n-th one counts, wherever it is, and no other one.
+// P2.3: each byte behind the n-th one counts, wherever it is in so many words as n bytes need, and no other one.
 func TestTextEveryByte(t *testing.T) {
 	for count := range 4 {
 		for at := range 8 * count {
@@ -159,13 +163,29 @@ func TestTextEveryByte(t *testing.T) {
 			words[at/8] = 1 << (at % 8 * 8)
 			for n := -2; n <= 8*count+2; n++ {
 				want := ""
-				ok := n > at && n <= 8*count
+				ok := n > at && n > 8*(count-1) && n <= 8*count
 				if ok {
 					want = strings.Repeat("\x00", at) + "\x01" + strings.Repeat("\x00", n-at-1)
 				}
 				if got, told := bits.Text(words, n); got != want || told != ok {
 					t.Errorf("Text(%x, %d): %q, %v, want %q, %v", words, n, got, told, want, ok)
 				}
+			}
+		}
+	}
+}
+
+// P2.3: of blank words just those are a text that are as many as its bytes need.
+func TestTextNeedsSoManyWords(t *testing.T) {
+	for count := range 6 {
+		for n := -1; n <= 50; n++ {
+			want := ""
+			ok := n >= 0 && count == (n+7)/8
+			if ok {
+				want = strings.Repeat("\x00", n)
+			}
+			if got, told := bits.Text(make([]uint64, count), n); got != want || told != ok {
+				t.Errorf("Text of %d blank words, %d: %q, %v, want %q, %v", count, n, got, told, want, ok)
 			}
 		}
 	}
@@ -178,11 +198,10 @@ func TestTextComesBack(t *testing.T) {
 		if got, ok := bits.Text(words, len(s)); got != s || !ok {
 			t.Errorf("Text of Words(%q): %q, %v", s, got, ok)
 		}
-		if got, ok := bits.Text(append(words, 0, 0), len(s)); got != s || !ok {
-			t.Errorf("Text of Words(%q), and two blank ones: %q, %v", s, got, ok)
-		}
-		if got, ok := bits.Text(append(words, 1), len(s)); got != "" || ok {
-			t.Errorf("Text of Words(%q), and one more: %q, %v", s, got, ok)
+		for _, more := range [][]uint64{{0}, {0, 0}, {1}} {
+			if got, ok := bits.Text(slices.Concat(words, more), len(s)); got != "" || ok {
+				t.Errorf("Text of Words(%q), and %x: %q, %v", s, more, got, ok)
+			}
 		}
 	}
 }
